@@ -18,18 +18,37 @@ LISTED = {
     "linear": """check_rows(rows) product_of(row, direction) weighted_sum(rows, amounts) plain_of(ratios)
         rank_of(rows) kernel_of(rows) relations_of(rows) solve_products(rows, products)""",
     "least": "least_cost(rows, target, costs)",
+    "stiemke": """balance_of(rows) free_direction(rows) bear_target(rows, target) lean_amounts(rows, amounts)
+        all_lean(rows, target)""",
+    "edges": "edges_of(rows)",
+    "linearjudges": """balance_fault(rows, result) bear_fault(rows, target, result)
+        least_fault(rows, target, costs, result)""",
+    "motions": """check_motion(motion) check_moving(motion) check_direction(direction) check_way(way) is_rest(motion)
+        is_slide(motion) centre_of(motion) turn_motion(centre, way) slide_motion(direction) plain_motion(motion)
+        plain_direction(direction) velocity_at(motion, place) motions_sum(one, other) scaled_motion(motion, by)
+        opposite_motion(motion) motion_from(place, velocity, other, further) shifted_motion(motion, by)
+        turned_motion(motion) mirrored_motion(motion) grown_motion(motion, size)""",
+    "pushes": """row_of(work, stop) rows_of(work, stops) row_on(work, side, spot) row_at(place, direction)
+        check_pull(pull)""",
+    "barring": """rate_at(work, stop, motion) stop_sign(work, stop, motion) rates_of(work, stops, motion)
+        first_bar(work, stops, motion) barring_stops(work, stops, motion) grazed_stops(work, stops, motion)
+        left_stops(work, stops, motion) is_free(work, stops, motion) free_share(work, stops, one, other)""",
+    "motiontext": "motion_text(motion) parse_motion(text)",
+    "freely": """cone_shape(normals) in_shape(shape, direction) free_slides(work, stops) free_edges(work, stops)
+        firming_spots(work, stops, side) keeping_spots(work, stops, number)""",
 }
 
 CLASSES = {
     "works": {"Work": ("corners",)},
     "least": {"Least": ("value", "amounts", "direction"), "Endless": ("amounts", "way"), "Against": ("direction",)},
+    "stiemke": {"Balance": ("amounts",), "Amounts": ("amounts",)},
 }
 
 WORK_METHODS = """corner_of(self, side) side_of(self, side) normal_of(self, side) place_at(self, side, spot)
     value_at(self, side, place) is_within(self, place) shifted(self, by) turned(self) mirrored(self) grown(self, size)
     begun_at(self, corner)"""
 
-VALUES = {"ratios": ("ZERO", "ONE")}
+VALUES = {"ratios": ("ZERO", "ONE"), "motions": ("REST",)}
 
 
 def signatures(text):
@@ -71,6 +90,10 @@ class Interface(unittest.TestCase):
         for module, names in VALUES.items():
             for name in names:
                 self.assertIsInstance(getattr(importlib.import_module("firmstops." + module), name), tuple)
+
+    def test_the_generator(self):
+        told = importlib.import_module("firmstops.stiemke")
+        self.assertTrue(inspect.isgeneratorfunction(told.all_lean))
 
 
 if __name__ == "__main__":
