@@ -3,6 +3,7 @@
 import random
 from fractions import Fraction
 from itertools import combinations
+from math import gcd
 
 from firmstops.works import Work
 
@@ -81,15 +82,8 @@ def is_plain(some):
     for top, bottom in some:
         if bottom != 1:
             return False
-        divisor = Fraction(divisor).numerator
         divisor = gcd(divisor, top)
     return divisor == 1
-
-
-def gcd(one, other):
-    while other:
-        one, other = other, one % other
-    return abs(one)
 
 
 def is_new_tuple(test, told):
@@ -100,6 +94,16 @@ def is_new_tuple(test, told):
     else:
         test.assertTrue(told is None or isinstance(told, (int, str)), told)
         test.assertNotIsInstance(told, bool)
+
+
+def bears_leanly(test, some, target, amounts):
+    """Ask that amounts are a new tuple from 0 on, that they bear a target, and that they are lean."""
+    is_new_tuple(test, amounts)
+    test.assertEqual(len(amounts), len(some))
+    test.assertTrue(all(value(one) >= 0 for one in amounts))
+    test.assertEqual(row(*weighted(some, amounts)), tuple(target))
+    borne = [line for line, one in zip(some, amounts) if one[0] > 0]
+    test.assertEqual(rank(borne), len(borne))
 
 
 NO_RATIOS = (

@@ -10,7 +10,7 @@ from firmstops.freely import cone_shape, firming_spots, free_edges, free_slides,
 from firmstops.pushes import row_on, rows_of
 from firmstops.stiemke import free_direction
 
-from helpers import BOX, EIGHT, NO_RATIOS, NO_SEQUENCES, SKEW, SQUARE, TRIANGLE
+from helpers import BOX, EIGHT, NO_RATIOS, NO_SEQUENCES, SQUARE, TRIANGLE
 from helpers import couples, is_new_tuple, is_plain, product, rank, ratio, row, rows, some_stops, some_works, stops
 from helpers import value, values, work
 

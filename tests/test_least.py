@@ -8,7 +8,8 @@ from firmstops.errors import BadNumbers, BadRows
 from firmstops.least import Against, Endless, Least, least_cost
 
 from helpers import NO_RATIOS, NO_SEQUENCES
-from helpers import is_new_tuple, is_plain, lean_solutions, product, rank, ratio, row, rows, some_systems, value, weighted
+from helpers import bears_leanly, is_new_tuple, is_plain, lean_solutions, product, ratio, row, rows, some_systems
+from helpers import value, weighted
 
 GREAT = 10 ** 299 + 9
 
@@ -32,23 +33,15 @@ def least_value(some, target, costs):
 
 class LeastCost(unittest.TestCase):
 
-    def bears_leanly(self, some, target, amounts):
-        is_new_tuple(self, amounts)
-        self.assertEqual(len(amounts), len(some))
-        self.assertTrue(all(value(one) >= 0 for one in amounts))
-        self.assertEqual(row(*weighted(some, amounts)), tuple(target))
-        borne = [line for line, one in zip(some, amounts) if one[0] > 0]
-        self.assertEqual(rank(borne), len(borne))
-
     def is_right(self, some, target, costs, told):
         if isinstance(told, Least):
-            self.bears_leanly(some, target, told.amounts)
+            bears_leanly(self, some, target, told.amounts)
             is_new_tuple(self, told.direction)
             self.assertEqual(told.value, ratio(product(told.amounts, costs)))
             self.assertTrue(all(product(line, told.direction) <= value(cost) for line, cost in zip(some, costs)))
             self.assertEqual(product(target, told.direction), value(told.value))
         elif isinstance(told, Endless):
-            self.bears_leanly(some, target, told.amounts)
+            bears_leanly(self, some, target, told.amounts)
             is_new_tuple(self, told.way)
             self.assertTrue(is_plain(told.way))
             self.assertTrue(all(one[0] >= 0 for one in told.way))

@@ -9,8 +9,8 @@ from firmstops.least import Against
 from firmstops.stiemke import Amounts, Balance, all_lean, balance_of, bear_target, free_direction, lean_amounts
 
 from helpers import NO_RATIOS, NO_SEQUENCES
-from helpers import is_new_tuple, is_plain, lean_solutions, product, rank, ratio, row, rows, some_systems, value, values
-from helpers import weighted
+from helpers import bears_leanly, is_new_tuple, is_plain, lean_solutions, product, rank, ratio, row, rows
+from helpers import some_systems, value, values, weighted
 
 GREAT = 10 ** 299 + 9
 UNIT = rows("1 0", "0 1", "-1 -1")
@@ -106,14 +106,6 @@ class Balances(unittest.TestCase):
 
 class Bearing(unittest.TestCase):
 
-    def is_lean(self, some, target, amounts):
-        is_new_tuple(self, amounts)
-        self.assertEqual(len(amounts), len(some))
-        self.assertTrue(all(value(one) >= 0 for one in amounts))
-        self.assertEqual(row(*weighted(some, amounts)), tuple(target))
-        borne = [line for line, one in zip(some, amounts) if one[0] > 0]
-        self.assertEqual(rank(borne), len(borne))
-
     def test_by_hand(self):
         self.assertEqual(bear_target(rows("2 0", "0 3"), row("1 1")), Amounts(row("1/2 1/3")))
         self.assertEqual(bear_target(rows("2 0", "0 3"), row("0 0")), Amounts(row("0 0")))
@@ -130,7 +122,7 @@ class Bearing(unittest.TestCase):
             kinds[type(told)] = kinds.get(type(told), 0) + 1
             self.assertEqual(isinstance(told, Amounts), bool(lean_solutions(some, target)))
             if isinstance(told, Amounts):
-                self.is_lean(some, target, told.amounts)
+                bears_leanly(self, some, target, told.amounts)
             else:
                 self.assertIsInstance(told, Against)
                 is_new_tuple(self, told.direction)
@@ -152,7 +144,7 @@ class Bearing(unittest.TestCase):
         for some, _ in some_systems(35, 300, 8, 4):
             amounts = row(*[Fraction(chance.choice((0, 0, 1, 2, 10 ** 100)), chance.randrange(1, 5)) for _ in some])
             told = lean_amounts([list(line) for line in some], list(amounts))
-            self.is_lean(some, row(*weighted(some, amounts)), told)
+            bears_leanly(self, some, row(*weighted(some, amounts)), told)
             self.assertTrue(all(new[0] == 0 for new, old in zip(told, amounts) if old[0] == 0))
 
     def test_lean_amounts_by_hand(self):
