@@ -31,12 +31,12 @@ def let_ones(directions, normals):
     return [direction for direction in directions if is_let(direction, normals)]
 
 
-def line_shape(direction):
-    """Return the shape of a direction and its opposite alone."""
+def line_direction(direction):
+    """Return a direction or its opposite: the one whose first number that is not 0 is above 0."""
     lead = sign_of(direction[0])
     if lead < 0 or (lead == 0 and sign_of(direction[1]) < 0):
-        return ("line", opposite(direction))
-    return ("line", direction)
+        return opposite(direction)
+    return direction
 
 
 def cone_shape(normals):
@@ -51,7 +51,7 @@ def cone_shape(normals):
     if len(lefts) == 0:
         return None
     if len(lefts) == 2:
-        return line_shape(lefts[0])
+        return ("line", line_direction(lefts[0]))
     if lefts == rights:
         return ("ray", lefts[0])
     kind = "half" if len(unlike) == 1 else "wedge"

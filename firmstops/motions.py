@@ -23,16 +23,26 @@ def check_moving(motion):
     return kept
 
 
+def is_direction(thing):
+    """Return whether a thing of any kind is a couple that is not (0, 0)."""
+    return is_couple(thing) and tuple(thing) != (ZERO, ZERO)
+
+
 def check_direction(direction):
     """Return a direction as a tuple."""
-    if not is_couple(direction) or tuple(direction) == (ZERO, ZERO):
+    if not is_direction(direction):
         raise BadDirection()
     return tuple(direction)
 
 
+def is_way(thing):
+    """Return whether a thing of any kind is "left" or "right"."""
+    return isinstance(thing, str) and thing in ("left", "right")
+
+
 def check_way(way):
     """Return a way, "left" or "right"."""
-    if not isinstance(way, str) or way not in ("left", "right"):
+    if not is_way(way):
         raise BadWay()
     return way
 

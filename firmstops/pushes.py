@@ -22,9 +22,14 @@ def row_of(work, stop):
     return row_on(work, side, spot)
 
 
+def right_rows(work, stops):
+    """Return the rows of stops that are known to be right ones, in their order."""
+    return tuple([row_on(work, side, spot) for side, spot in stops])
+
+
 def rows_of(work, stops):
     """Return the rows of stops, in their order."""
-    return tuple([row_on(work, side, spot) for side, spot in check_stops(work, stops)])
+    return right_rows(work, check_stops(work, stops))
 
 
 def check_pull(pull):

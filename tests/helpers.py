@@ -5,6 +5,7 @@ from fractions import Fraction
 from itertools import combinations
 from math import gcd
 
+from firmstops.errors import BadStop, BadStretch
 from firmstops.works import Work
 
 
@@ -113,6 +114,72 @@ NO_RATIOS = (
 
 NO_SEQUENCES = (None, 0, True, "ab", "abc", b"abc", 1.5, {}, {0: 1}, {1, 2}, range(3), object())
 
+
+
+class Alike:
+    """A thing that is equal to everything."""
+
+    def __eq__(self, other):
+        return True
+
+
+def no_numbers(many):
+    """Things that are no sequences of so many ratios."""
+    wrong = [(thing,) + (ratio(1),) * (many - 1) for thing in NO_RATIOS]
+    wrong += [[ratio(1)] * (many - 1) + [thing] for thing in NO_RATIOS]
+    return wrong + list(NO_SEQUENCES) + [(), [], (1,) * many, (ratio(1),) * (many - 1), (ratio(1),) * (many + 1)]
+
+
+NO_COUPLES = tuple(no_numbers(2))
+NO_DIRECTIONS = NO_COUPLES + (((0, 1), (0, 1)), [(0, 1), (0, 1)])
+NO_MOTIONS = tuple(no_numbers(3))
+NO_WAYS = (Alike(), None, 0, 1, True, "", "Left", "RIGHT", "left ", "straight", b"left", ("left",), ["left"], {}, "l")
+NO_SIDES = (-1, 3, 8, True, False, None, 1.0, "0", (0, 1), [0])
+
+# Things that are no stops of a triangle, with the index and the word that tell why.
+NO_STOPS = (
+    (None, 0, "many"), ("0:1/2", 0, "many"), ([(0, (1, 2))] * 9, 0, "many"), ([None] * 9, 0, "many"),
+    ([(0, (1, 2)), 7], 1, "stop"), ([(0, (1, 2), (1, 2)), None], 0, "stop"), ([(3, (1, 2))], 0, "side"),
+    ([(0, (1, 2)), (True, (1, 1))], 1, "side"), ([(0, (1, 2)), (0, (1, 2)), (1, (1, 1))], 2, "spot"),
+    ([(0, (2, 4)), (9, None)], 0, "spot"),
+)
+
+
+def refused(test, error, ask, *attributes):
+    """Ask that a call raises an error with just these attributes, in the order of the interface."""
+    with test.assertRaises(error) as caught:
+        ask()
+    test.assertIs(caught.exception.__class__, error)
+    test.assertEqual(tuple(vars(caught.exception).values()), attributes)
+
+
+def refuses_stops(test, *asks):
+    """Ask that functions of the stops of a triangle check them as check_stops does."""
+    for ask in asks:
+        for some, index, what in NO_STOPS:
+            refused(test, BadStop, lambda: ask(some), index, what)
+
+
+def is_result(test, make, attributes, others):
+    """Ask that a result keeps what it is given, and is equal to its like alone.
+
+    `attributes` is a dict of names and things, `others` things of which each stands for any of them once.
+    """
+    names, things = tuple(attributes), tuple(attributes.values())
+    told = make(*things)
+    test.assertEqual(tuple(vars(told)), names)
+    for name, thing in attributes.items():
+        test.assertIs(getattr(told, name), thing)
+    test.assertTrue(told == make(*things))
+    test.assertTrue(make(**attributes) == told)
+    test.assertFalse(told != make(*things))
+    for at in range(len(things)):
+        for other in others:
+            test.assertFalse(told == make(*things[:at], other, *things[at + 1:]), (make, names[at]))
+    for thing in (None, 0, "x", things, attributes, object()):
+        test.assertFalse(told == thing)
+
+
 TRIANGLE = "0,0 4,0 0,3"
 SQUARE = "0,0 1,0 1,1 0,1"
 BOX = "0,0 4,0 4,2 0,2"
@@ -198,3 +265,174 @@ def some_systems(seed, rounds, most=6, widest=3):
             target = [sum((a * line[k] for a, line in zip(shares, some)), Fraction(0)) for k in range(width)]
         found.append((tuple(row(*line) for line in some), row(*target)))
     return found
+
+
+def crossed(one, other):
+    """The Fractions of the cross product of two rows of three ratios."""
+    (a, b, c), (d, e, f) = values(one), values(other)
+    return (b * f - c * e, c * d - a * f, a * e - b * d)
+
+
+def is_free_of(lines, motion):
+    """Whether a motion, told in Fractions, has no product below 0 with rows of ratios."""
+    return all(sum(value(a) * b for a, b in zip(line, motion)) >= 0 for line in lines)
+
+
+def are_firm(lines):
+    """Whether only rest is free of rows of three ratios: rank 3, and no edge is free."""
+    if rank(lines) < 3:
+        return False
+    for one, other in combinations(lines, 2):
+        for sign in (1, -1):
+            motion = tuple(sign * a for a in crossed(one, other))
+            if any(motion) and is_free_of(lines, motion):
+                return False
+    return True
+
+
+def is_balance(lines, amounts):
+    """Whether amounts above 0, one for each row, have a weighted sum of zeros."""
+    return len(amounts) == len(lines) and all(one[0] > 0 for one in amounts) and not any(weighted(lines, amounts))
+
+
+def meetings(halves):
+    """The places, in Fractions, at which two lines of halves meet that are of all halves."""
+    told = [values(half) for half in halves]
+    found = set()
+    for (a, b, c), (d, e, f) in combinations(told, 2):
+        turn = a * e - b * d
+        if turn != 0:
+            x, y = (c * e - f * b) / turn, (a * f - d * c) / turn
+            if all(p * x + q * y >= r for p, q, r in told):
+                found.add((x, y))
+    return found
+
+
+def fill_an_area(places):
+    """Whether some three places, in Fractions, are not on one line."""
+    return any((c - a) * (f - b) != (d - b) * (e - a) for (a, b), (c, d), (e, f) in combinations(places, 3))
+
+
+NO_SWINGS = NO_RATIOS + ((-1, 1), (-1, 10 ** 300))
+SWINGS = ("0", "1/1000", "1/3", "1", "5/2")
+
+
+def turned_by(place, centre, way, swing):
+    """The place, in Fractions, after a turn about a centre whose half angle has the tangent swing."""
+    (x, y), (a, b), k = values(place), values(centre), value(swing)
+    cosine, sine = (1 - k * k) / (1 + k * k), 2 * k / (1 + k * k) * (1 if way == "left" else -1)
+    return (a + (x - a) * cosine - (y - b) * sine, b + (x - a) * sine + (y - b) * cosine)
+
+
+def are_past(told, some, corners):
+    """The indices of the stops that are past their own side of a work with other corners, in Fractions."""
+    found = []
+    for at, (side, spot) in enumerate(some):
+        (a, b), (c, d) = corners[side], corners[(side + 1) % len(told)]
+        x, y = values(told.place_at(side, spot))
+        if (c - a) * (y - b) - (d - b) * (x - a) > 0:
+            found.append(at)
+    return tuple(found)
+
+
+def past_after(told, some, centre, way, swing):
+    """The indices of the stops that are past their own side after a turn, in Fractions."""
+    return are_past(told, some, [turned_by(corner, centre, way, swing) for corner in told.corners])
+
+
+def hold_cases(most=6):
+    """Works and stops: some by chance, and some that were chosen by hand, also works held by bend."""
+    for told in some_works():
+        for many in range(most + 1):
+            yield told, some_stops(told, 200 + many, many)
+            yield told, some_stops(told, 210 + many, many)
+    for text, some in HOLD_CASES:
+        yield work(text), stops(some)
+
+
+HOLD_CASES = (
+    (TRIANGLE, "0:1/4 1:3/5 2:2/3"), (TRIANGLE, "0:1/2 1:3/5 2:2/3"), (TRIANGLE, "0:1/8 1:3/5 2:2/3"),
+    (TRIANGLE, "0:1/8 1:3/5 2:2/3 0:1/2"), (TRIANGLE, "0:1/4 0:1/8 1:3/5 2:2/3"),
+    (BOX, "0:1/2 1:1/2 2:1/2 3:1/2"), (BOX, "0:1/2 1:1/2 2:1/4 3:3/4"), (BOX, "0:1/2 1:1/2 2:3/4 3:3/4"),
+    (BOX, "0:1/2 1:1/2 2:3/4 3:1/4"), (BOX, "0:1/2 1:1/2 2:1/2 3:3/4"), (BOX, "0:1/2 1:1/2 2:1/2 3:1/4"),
+    (BOX, "0:1/4 0:3/4 2:1/2 1:1/2 3:1/2"), (BOX, "0:1/2 2:1/2"), (BOX, "0:1/2 2:1/2 1:1/4"), (BOX, "3:1/2"),
+    (BOX, "0:1/8 0:1/4 1:1/2 2:7/8 2:3/4 3:1/2"), (BOX, ""), (SKEW, "0:1/2 1:1/2 2:1/2 3:1/2 4:1/2"),
+    (SQUARE, "0:1/3 1:1/3 2:2/3 3:2/3"), (SQUARE, "0:1/3 1:1/3 2:1/3 3:1/3 0:1/3 1:1/3 2:1/3 3:1/3"),
+)
+
+
+def stretches(text):
+    """Stretches from a text such as 0:1/4:1/2 1:0:1."""
+    told = [word.split(":") for word in text.split()]
+    return tuple((int(side), ratio(low), ratio(high)) for side, low, high in told)
+
+
+def some_stretches(told, seed, many, closed=True, wide=False):
+    """Some stretches of a work, the same ones for the same seed; open ones may reach the corners."""
+    chance = random.Random(seed)
+    found = []
+    while len(found) < many:
+        bottom = chance.choice((4, 5, 8, 12, 10 ** 40 + 7))
+        ends = [chance.randrange(closed, bottom + 1 - closed) for _ in range(2)]
+        low, high = min(ends), max(ends)
+        if chance.randrange(4) == 0:
+            high = min(low + 1, bottom - closed)
+        if low < bottom and high > 0 and not (wide and low == high):
+            found.append((chance.randrange(len(told)), ratio(Fraction(low, bottom)), ratio(Fraction(high, bottom))))
+    return tuple(found)
+
+
+# Things that are no stretches of a triangle, with the index and the word that tell why.
+NO_STRETCHES = (
+    (None, 0, "many"), ("0:0:1", 0, "many"), ((), 0, "many"), ([(0, (0, 1), (1, 1))] * 7, 0, "many"),
+    ({}, 0, "many"), ([None] * 7, 0, "many"),
+    ([None], 0, "stretch"), ([(0, (0, 1), (1, 1)), (0, (0, 1))], 1, "stretch"), ([(0, (0, 1), (1, 1), 7)], 0, "stretch"),
+    ([(0, (0, 1), (1, 1)), "abc"], 1, "stretch"), ([(3, (0, 1), (1, 1))], 0, "side"), ([(-1, None, None)], 0, "side"),
+    ([(True, (0, 1), (1, 1))], 0, "side"), ([(None, (0, 1), (1, 1)), None], 0, "side"),
+    ([(0, (0, 1), (1, 1)), [1, (1, 1), (1, 1)]], 1, "low"), ([(0, (-1, 9), (1, 1))], 0, "low"),
+    ([(0, (2, 4), None)], 0, "low"), ([(0, 0, (1, 1))], 0, "low"), ([(0, None, None)], 0, "low"),
+    ([(0, (0, 1), (0, 1))], 0, "high"), ([(0, (1, 2), (1, 3))], 0, "high"), ([(0, (0, 1), (3, 2))], 0, "high"),
+    ([(0, (0, 1), (1, 1)), (0, (1, 2), None)], 1, "high"), ([(0, (0, 1), 1)], 0, "high"),
+    ([(0, (0, 1), (2, 2))], 0, "high"), ([(0, (1, 2), (-1, 2))], 0, "high"),
+)
+
+
+def refuses_stretches(test, *asks):
+    """Ask that functions of the stretches of a triangle check them as check_stretches does."""
+    for ask in asks:
+        for some, index, what in NO_STRETCHES:
+            refused(test, BadStretch, lambda: ask(some), index, what)
+
+
+def refuses_open(test, *asks):
+    """Ask that functions of the stretches of a triangle check them as check_closed does."""
+    refuses_stretches(test, *asks)
+    for ask in asks:
+        for text, index in (("0:0:1", 0), ("0:1/4:1/2 1:0:1/2", 1), ("0:1/4:1/2 0:1/8:1 1:0:1", 1), ("2:1/2:1", 0)):
+            refused(test, BadStretch, lambda: ask(stretches(text)), index, "corner")
+        late = [stretches("0:0:1")[0], (0, (1, 2), None)]
+        refused(test, BadStretch, lambda: ask(late), 1, "high")
+
+
+def around_stops(some, by):
+    """Stretches around some stops: each spot less and more a part of its room to the corners."""
+    found = []
+    for side, spot in some:
+        room = min(value(spot), 1 - value(spot)) * by
+        found.append((side, ratio(value(spot) - room), ratio(value(spot) + room)))
+    return tuple(found)
+
+
+def spot_cases():
+    """Works with closed stretches: some by chance, some narrow ones around stops that may be firm."""
+    for at, told in enumerate(some_works()):
+        # Great numbers in many stretches take long.
+        most = 3 if at == 8 else 5 + at % 2
+        for many in range(1 + at % 3, most + 1, 2):
+            yield told, some_stretches(told, 290 + many, many)
+        for seed in range(3):
+            yield told, around_stops(some_stops(told, 300 + seed + at, min(4 + seed, most)), Fraction(seed, 50))
+    for text, some in HOLD_CASES:
+        if 1 <= len(stops(some)) <= 6:
+            yield work(text), around_stops(stops(some), 0)
+            yield work(text), around_stops(stops(some), Fraction(1, 1000))

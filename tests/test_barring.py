@@ -13,14 +13,12 @@ from firmstops.places import dot_of
 from firmstops.pushes import row_of
 from firmstops.stops import begun_stops, mirrored_stops
 
-from helpers import BOX, NO_RATIOS, NO_SEQUENCES, SKEW, TRIANGLE
+from helpers import BOX, NO_MOTIONS, SKEW, TRIANGLE
 from helpers import is_new_tuple, product, ratio, row, some_stops, some_works, stops, value, work
 
 HALF = ratio("1/2")
 REST = row("0 0 0")
 LISTS = (rates_of, barring_stops, grazed_stops, left_stops, first_bar, is_free)
-NO_MOTIONS = NO_SEQUENCES + ((), row("1 2"), row("1 2 3 4"), (1, 2, 3)) + tuple(
-    (ratio(1), ratio(1), thing) for thing in NO_RATIOS)
 
 
 def motions(seed, many):

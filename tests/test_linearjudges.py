@@ -8,19 +8,12 @@ from firmstops.least import Against, Endless, Least, least_cost
 from firmstops.linearjudges import balance_fault, bear_fault, least_fault
 from firmstops.stiemke import Amounts, Balance, balance_of, bear_target
 
-from helpers import NO_RATIOS, NO_SEQUENCES
-from helpers import ratio, row, rows, some_systems
+from helpers import NO_RATIOS
+from helpers import no_numbers, ratio, row, rows, some_systems
 
 GREAT = 10 ** 700 + 1
 UNIT = rows("1 0", "0 1", "-1 -1")
 CORNER = rows("1 0", "0 1", "1 1")
-
-
-def no_numbers(many):
-    """Things that are no sequences of so many ratios."""
-    wrong = [(thing,) + (ratio(1),) * (many - 1) for thing in NO_RATIOS]
-    wrong += [[ratio(1)] * (many - 1) + [thing] for thing in NO_RATIOS]
-    return wrong + list(NO_SEQUENCES) + [(), (ratio(1),) * (many - 1), (ratio(1),) * (many + 1)]
 
 
 class BalanceFault(unittest.TestCase):

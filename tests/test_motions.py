@@ -10,27 +10,13 @@ from firmstops.motions import is_rest, is_slide, mirrored_motion, motion_from, m
 from firmstops.motions import plain_direction, plain_motion, scaled_motion, shifted_motion, slide_motion, turn_motion
 from firmstops.motions import turned_motion, velocity_at
 
-from helpers import NO_RATIOS, NO_SEQUENCES
+from helpers import NO_COUPLES, NO_MOTIONS, NO_RATIOS, NO_WAYS
 from helpers import couples, is_new_tuple, is_plain, ratio, row, rows, values
 
 GREAT = 10 ** 299 + 7
 MOTIONS = rows("0 0 0", "1 0 0", "-1/2 3 0", "0 0 1", "0 0 -2", "1 2 3", "-3/2 5/7 -1/9", "0 4 2") + (
     row(GREAT, Fraction(1, GREAT), -GREAT),)
 PLACES = couples("0,0 1,0 0,1 -3/2,7/5 4,-1/3") + (row(GREAT, Fraction(-3, GREAT)),)
-NO_MOTIONS = NO_SEQUENCES + ((), [], row("1 2"), row("1 2 3 4"), (1, 2, 3), [1, 2, 3]) + tuple(
-    (ratio(1), thing, ratio(1)) for thing in NO_RATIOS) + tuple([ratio(1), ratio(1), thing] for thing in NO_RATIOS)
-NO_COUPLES = NO_SEQUENCES + ((), [], row("1"), row("1 2 3"), (1, 2), [1, 2]) + tuple(
-    (ratio(1), thing) for thing in NO_RATIOS) + tuple([thing, ratio(1)] for thing in NO_RATIOS)
-
-
-class Alike:
-    """A thing that is equal to everything."""
-
-    def __eq__(self, other):
-        return True
-
-
-NO_WAYS = (Alike(), None, 0, 1, True, "", "Left", "RIGHT", "left ", "straight", b"left", ("left",), ["left"], {}, "l")
 
 
 class Checks(unittest.TestCase):
