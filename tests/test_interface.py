@@ -36,19 +36,60 @@ LISTED = {
     "motiontext": "motion_text(motion) parse_motion(text)",
     "freely": """cone_shape(normals) in_shape(shape, direction) free_slides(work, stops) free_edges(work, stops)
         firming_spots(work, stops, side) keeping_spots(work, stops, number)""",
+    "firm": """is_firm(work, stops) firm_or_free(work, stops) firm_fault(work, stops, firm) free_fault(work, stops, free)
+        firm_lack(work, stops) meet_of(work, stops)""",
+    "worn": """worn_work(work, shares) rod_of(work, stop) pressed_stops(work, stops, other)
+        wear_limit(work, stops)""",
+    "areas": "common_extent(halves) work_halves(work) extent_sign(extent, place) middle_of(extent)",
+    "centres": """centre_half(work, stop, way, swing) centres_at(work, stops, way, swing) centres_of(work, stops, way)
+        about_place(work, stops, place, way) check_swing(swing)""",
+    "clasps": "clasps_of(work, stops) clasp_fault(work, stops, clasp) widest_swing(work, stops, way)",
+    "turns": """greatest_turn(work, stops, centre, way) met_stops(work, stops, centre, way)
+        turned_place(place, centre, way, swing) turned_work(work, centre, way, swing)
+        placed_work(work, way, swing, by) past_own(work, stops, placed) is_clear(placed, places)
+        turn_steps(work, centre, way, swing, many) slide_steps(work, direction, many)""",
+    "held": """held_or_loose(work, stops) is_held(work, stops) held_fault(work, stops, held)
+        loose_fault(work, stops, loose)""",
+    "verdicttext": "verdict_text(verdict) parse_verdict(text)",
+    "stretches": """check_stretches(work, stretches) check_closed(work, stretches) check_wide(work, stretches)
+        end_stops(work, stretches, choice) end_rows(work, stretches) spots_let(work, stretch, motion)
+        motion_fate(work, stretches, motion) choices_of(stretches)""",
+    "allspots": """all_firm(work, stretches) all_held(work, stretches) all_bear(work, stretches, pull)
+        loose_choices(work, stretches)""",
+    "somespots": "some_firm(work, stretches) some_bear(work, stretches, pull)",
+    "spotjudges": """all_firm_fault(work, stretches, result) all_bear_fault(work, stretches, pull, result)
+        some_firm_fault(work, stretches, result) some_bear_fault(work, stretches, pull, result)""",
+    "onespot": "holding_spots(work, stops, side) slack_steps(work, stops, step, most)",
+    "stretchtext": "stretches_text(work, stretches) parse_stretches(work, text)",
+    "pulls": """pull_at(place, direction) pulls_sum(pulls) shifted_pull(pull, by) turned_pull(pull) mirrored_pull(pull)
+        grown_pull(pull, size) bear_pull(work, stops, pull) is_borne(work, stops, pull)
+        first_unborne(work, stops, pulls) bear_pull_fault(work, stops, pull, result)""",
+    "cones": "edge_motions(work, stops)",
 }
 
 CLASSES = {
     "works": {"Work": ("corners",)},
     "least": {"Least": ("value", "amounts", "direction"), "Endless": ("amounts", "way"), "Against": ("direction",)},
     "stiemke": {"Balance": ("amounts",), "Amounts": ("amounts",)},
+    "firm": {"Firm": ("amounts",), "Free": ("motion",)},
+    "areas": {"Empty": (), "Point": ("place",), "Segment": ("one", "other"), "Area": ("corners",), "Unbounded": ()},
+    "clasps": {"Clasp": ("indices", "amounts", "twist", "span")},
+    "held": {"Held": ("how", "left", "right"), "Slide": ("direction",), "Turn": ("centre", "way", "most")},
+    "allspots": {"Ends": ("choice", "motion"), "LooseEnds": ("choice", "loose")},
+    "somespots": {"Placed": ("stops", "amounts"), "NoSpots": ("motion",)},
+    "pulls": {"Pushes": ("amounts",), "Pulled": ("motion",)},
 }
 
 WORK_METHODS = """corner_of(self, side) side_of(self, side) normal_of(self, side) place_at(self, side, spot)
     value_at(self, side, place) is_within(self, place) shifted(self, by) turned(self) mirrored(self) grown(self, size)
     begun_at(self, corner)"""
 
-VALUES = {"ratios": ("ZERO", "ONE"), "motions": ("REST",)}
+VALUES = {"ratios": ("ZERO", "ONE"), "motions": ("REST",), "pulls": ("NO_PULL",)}
+
+GENERATORS = {
+    "stiemke": ("all_lean",), "clasps": ("clasps_of",), "turns": ("turn_steps", "slide_steps"),
+    "stretches": ("choices_of",), "allspots": ("loose_choices",),
+}
 
 
 def signatures(text):
@@ -73,8 +114,9 @@ class Interface(unittest.TestCase):
             told = importlib.import_module("firmstops." + module)
             for name, expected in some.items():
                 self.assertEqual(getattr(told, name).__module__, "firmstops." + module, name)
-                found = tuple(inspect.signature(getattr(told, name)).parameters)
-                self.assertEqual(found, expected, name)
+                parameters = inspect.signature(getattr(told, name)).parameters if expected else ()
+                self.assertEqual(tuple(parameters), expected, name)
+                self.assertEqual("__init__" in vars(getattr(told, name)), expected != (), name)
                 self.assertIn("__eq__", vars(getattr(told, name)), name)
 
     def test_methods_of_work(self):
@@ -91,9 +133,12 @@ class Interface(unittest.TestCase):
             for name in names:
                 self.assertIsInstance(getattr(importlib.import_module("firmstops." + module), name), tuple)
 
-    def test_the_generator(self):
-        told = importlib.import_module("firmstops.stiemke")
-        self.assertTrue(inspect.isgeneratorfunction(told.all_lean))
+    def test_generators(self):
+        for module in LISTED:
+            told = importlib.import_module("firmstops." + module)
+            for name, _ in signatures(LISTED[module]):
+                found = inspect.isgeneratorfunction(getattr(told, name))
+                self.assertEqual(found, name in GENERATORS.get(module, ()), name)
 
 
 if __name__ == "__main__":
