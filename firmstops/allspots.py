@@ -1,10 +1,13 @@
 """What is so for all spots: stops that are firm, held or bear a pull wherever they stand in their stretches."""
 
-from firmstops.firm import Firm, firm_or_free, is_firm
-from firmstops.held import Held, held_or_loose
+from firmstops.clasps import clasp_lots, normals_of
+from firmstops.firm import firm_or_free
+from firmstops.freely import cone_shape
+from firmstops.held import held_or_loose
 from firmstops.pulls import Pulled, bear_pull
 from firmstops.pushes import check_pull
-from firmstops.stretches import check_closed, choices_of, chosen_stops
+from firmstops.ratios import sign_of, sum_of, times
+from firmstops.stretches import check_closed, choices_of, chosen_stops, end_couples
 
 
 class Ends:
@@ -29,31 +32,66 @@ class LooseEnds:
         return isinstance(other, LooseEnds) and self.choice == other.choice and self.loose == other.loose
 
 
+def clasp_ends(work, stretches):
+    """Return for each clasp of stops within stretches its parts, a list of (index, (low, high)).
+
+    The numbers tell what the stop of this index adds to the twist at the low end and at the high
+    end. Normals alone make a clasp, so the same ones are there at all choices of ends. The list is
+    empty if some slide is free.
+    """
+    normals = normals_of(work, [stretch[:2] for stretch in stretches])
+    if cone_shape(normals) is not None:
+        return []
+    couples = end_couples(work, stretches)
+    return [
+        [(at, [times(amount, row[2]) for row in couples[at]]) for at, amount in zip(indices, amounts)]
+        for indices, amounts in clasp_lots(normals)
+    ]
+
+
+def twist_signs(clasps, choice):
+    """Return the signs of the twists of clasps, told by their parts, at a choice of ends."""
+    return [sign_of(sum_of([ends[choice[at]] for at, ends in parts])) for parts in clasps]
+
+
+def is_firm_at(clasps, choice):
+    """Return whether the stops are firm at a choice: some twist is below 0 and some above 0."""
+    signs = twist_signs(clasps, choice)
+    return -1 in signs and 1 in signs
+
+
+def is_held_at(clasps, choice):
+    """Return whether the work is held at a choice: some twist is at most 0 and some at least 0."""
+    signs = twist_signs(clasps, choice)
+    return 0 in signs or (-1 in signs and 1 in signs)
+
+
 def all_firm(work, stretches):
     """Return None if the stops are firm for all spots, otherwise the first Ends at which they are not."""
     kept = check_closed(work, stretches)
+    clasps = clasp_ends(work, kept)
     for choice in choices_of(kept):
-        told = firm_or_free(work, chosen_stops(kept, choice))
-        if not isinstance(told, Firm):
-            return Ends(choice, told.motion)
+        if not is_firm_at(clasps, choice):
+            return Ends(choice, firm_or_free(work, chosen_stops(kept, choice)).motion)
     return None
 
 
 def loose_choices(work, stretches):
     """Yield all choices of ends at which the stops are not firm, in order."""
     kept = check_closed(work, stretches)
+    clasps = clasp_ends(work, kept)
     for choice in choices_of(kept):
-        if not is_firm(work, chosen_stops(kept, choice)):
+        if not is_firm_at(clasps, choice):
             yield choice
 
 
 def all_held(work, stretches):
     """Return None if the work is held for all spots, otherwise the first LooseEnds at which it is not."""
     kept = check_closed(work, stretches)
+    clasps = clasp_ends(work, kept)
     for choice in choices_of(kept):
-        told = held_or_loose(work, chosen_stops(kept, choice))
-        if not isinstance(told, Held):
-            return LooseEnds(choice, told)
+        if not is_held_at(clasps, choice):
+            return LooseEnds(choice, held_or_loose(work, chosen_stops(kept, choice)))
     return None
 
 

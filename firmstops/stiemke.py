@@ -1,6 +1,6 @@
 """Balances of rows, free directions, and amounts that bear a target."""
 
-from firmstops.elimination import index_sets
+from firmstops.elimination import as_ratios, index_sets, scaled_back, whole_rows
 from firmstops.errors import BadNumbers
 from firmstops.least import Against
 from firmstops.linear import check_numbers, check_rows, kernel_of, plain_of, rank_of, weighted_sum
@@ -45,12 +45,15 @@ def bear_target(rows, target):
 def balance_of(rows):
     """Return a Balance of the rows, or a direction Against it."""
     check_rows(rows)
+    # Whole rows have a sum of small numbers, where that of fractions has a great bottom.
+    wholes, factors = whole_rows(rows)
+    lines = [as_ratios(row) for row in wholes]
     # A balance may be taken so great that each amount is 1 and a rest from 0 on.
-    total = weighted_sum(rows, [ONE] * len(rows))
-    rest = borne_or_against(rows, tuple([negative(one) for one in total]))
+    total = weighted_sum(lines, [ONE] * len(lines))
+    rest = borne_or_against(lines, tuple([negative(one) for one in total]))
     if isinstance(rest, Against):
         return rest
-    return Balance(plain_of([plus(ONE, amount) for amount in rest.amounts]))
+    return Balance(plain_of(scaled_back([plus(ONE, amount) for amount in rest.amounts], factors)))
 
 
 def free_direction(rows):

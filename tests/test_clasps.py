@@ -111,6 +111,7 @@ class Judge(unittest.TestCase):
                                      (0, True), (False, 1, 2), (0, 1.0), (None, None), ("0", "1"), {0, 1}, (0, 10 ** 30)):
             self.word("indices", thing, None)
         self.word("indices", (0, 1, 2), row("1 1 1"), text="0:1/4 1:3/5")
+        self.word("indices", (0, 1, 2, 3), row("1 1 2 2"), text="0:1/8 0:1/4 1:3/5 2:2/3")
         self.word("indices", (0, 1), row("1 1"), text="")
 
     def test_amounts(self):

@@ -155,6 +155,10 @@ class SlackSteps(unittest.TestCase):
         self.assertTrue(is_firm(told, some))
         for step, expected in (("1/16", 0), ("1/32", 1), ("1/48", 2), ("1/64", 3), ("1/161", 10)):
             self.assertEqual(slack_steps(told, some, ratio(step), 12), expected)
+        # The begin of a side ends them alone, or its end.
+        for text in ("0:1/16 0:3/4 1:1/2 2:1/2 3:1/2", "0:1/4 0:15/16 1:1/2 2:1/2 3:1/2"):
+            for step, expected in (("1/16", 0), ("1/32", 1), ("1/17", 1), ("1/161", 10)):
+                self.assertEqual(slack_steps(told, stops(text), ratio(step), 12), expected)
 
     def fits(self, told, some, reach):
         if any(value(spot) - reach <= 0 or value(spot) + reach >= 1 for _, spot in some):

@@ -3,21 +3,22 @@
 import random
 import unittest
 from fractions import Fraction
+from itertools import permutations
 
 from firmstops.errors import BadPull, BadStretch
 from firmstops.firm import is_firm
 from firmstops.linear import kernel_of
 from firmstops.pulls import is_borne
 from firmstops.pushes import rows_of
-from firmstops.somespots import NoSpots, Placed, some_bear, some_firm
+from firmstops.somespots import NoSpots, Placed, parted, some_bear, some_firm
 from firmstops.spotjudges import some_bear_fault, some_firm_fault
 from firmstops.stops import check_stops
 from firmstops.stretches import end_rows, motion_fate
 
 from helpers import BOX, NO_MOTIONS, SKEW, SQUARE, TRIANGLE
 from helpers import are_firm, is_balance, is_free_of, is_new_tuple, is_plain, is_result, lean_solutions, product, rank
-from helpers import ratio, refused, refuses_open, refuses_stretches, row, some_stretches, some_works, stretches, value
-from helpers import values, weighted, work
+from helpers import ratio, refused, refuses_open, refuses_stretches, row, some_stretches, some_works, stops, stretches
+from helpers import value, values, weighted, work
 
 GREAT = 10 ** 200 + 3
 MIDDLES = stretches("0:1/4:3/4 1:1/4:3/4 2:1/4:3/4 3:1/4:3/4")
@@ -65,6 +66,33 @@ class SomeFirm(unittest.TestCase):
             found = some_firm(told, some)
             self.is_right(told, some, found)
             self.assertEqual(rank(rows_of(told, found.stops)), 3)
+
+    def test_parted_where_the_rooms_are_unlike(self):
+        some = stretches("0:1/100:99/100 1:49/100:51/100 2:1/100:99/100 3:49/100:51/100")
+        for order in permutations(some):
+            for told in (work(SQUARE), work(BOX)):
+                self.is_right(told, order, some_firm(told, order))
+
+    def test_parted_stops(self):
+        # The stops stand at the feet of one place, and the amounts are a balance of their rows of rank 2.
+        chance = random.Random(321)
+        for text, some, amounts in (
+            (BOX, "0:1/4 1:1/4 2:3/4 3:3/4", "1/99 7 1/99 7"), (BOX, "0:7/8 1:1/9 2:1/8 3:8/9", "1/50 1/30 1/50 1/30"),
+            (TRIANGLE, "0:1/4 0:1/4 1:3/5 2:2/3", "1/3 2/3 1 1"), (BOX, "0:1/2 1:1/2 2:1/2 3:1/2 0:1/2", "1 1 3 1 2"),
+            (BOX, "0:1/4 2:3/4 0:1/4 2:3/4 1:1/4 3:3/4", "1 2 2 1 9 9"),
+        ):
+            told = work(text)
+            orders = list(permutations(list(zip(stops(some), row(amounts)))))
+            for order in chance.sample(orders, 24):
+                meet, kept = tuple(stop for stop, _ in order), tuple(amount for _, amount in order)
+                self.assertEqual(rank(rows_of(told, meet)), 2)
+                around = []
+                for side, spot in meet:
+                    rooms = [Fraction(1, chance.choice((10, 10 ** 6, GREAT))) for _ in range(2)]
+                    around.append((side, ratio(value(spot) - rooms[0]), ratio(value(spot) + rooms[1])))
+                found = parted(told, around, Placed(meet, kept))
+                self.assertEqual(found.amounts, kept)
+                self.is_right(told, tuple(around), found)
 
     def test_results(self):
         seen = {Placed: 0, NoSpots: 0}
