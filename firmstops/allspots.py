@@ -1,6 +1,6 @@
 """What is so for all spots: stops that are firm, held or bear a pull wherever they stand in their stretches."""
 
-from firmstops.clasps import clasp_lots, normals_of
+from firmstops.clasps import are_firm_twists, are_held_twists, clasp_lots, normals_of
 from firmstops.firm import firm_or_free
 from firmstops.freely import cone_shape
 from firmstops.held import held_or_loose
@@ -55,15 +55,13 @@ def twist_signs(clasps, choice):
 
 
 def is_firm_at(clasps, choice):
-    """Return whether the stops are firm at a choice: some twist is below 0 and some above 0."""
-    signs = twist_signs(clasps, choice)
-    return -1 in signs and 1 in signs
+    """Return whether the stops are firm at a choice of ends."""
+    return are_firm_twists(twist_signs(clasps, choice))
 
 
 def is_held_at(clasps, choice):
-    """Return whether the work is held at a choice: some twist is at most 0 and some at least 0."""
-    signs = twist_signs(clasps, choice)
-    return 0 in signs or (-1 in signs and 1 in signs)
+    """Return whether the work is held at a choice of ends."""
+    return are_held_twists(twist_signs(clasps, choice))
 
 
 def all_firm(work, stretches):

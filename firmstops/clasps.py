@@ -5,7 +5,7 @@ from firmstops.linear import product_of, relations_of
 from firmstops.linearjudges import are_from_zero_on, has_no_sum, is_plain
 from firmstops.motions import check_way
 from firmstops.pushes import right_rows
-from firmstops.ratios import ZERO, is_sequence, is_whole, least_of, negative, over, sign_of
+from firmstops.ratios import ZERO, are_ascending, least_of, negative, over, sign_of
 from firmstops.stops import check_stops
 
 
@@ -59,21 +59,22 @@ def span_of(work, stops, indices, amounts):
     return product_of([work.value_at(stops[at][0], work.corners[0]) for at in indices], amounts)
 
 
+def are_firm_twists(signs):
+    """Return whether clasps with these signs of their twists make a work firm that no slide frees."""
+    return -1 in signs and 1 in signs
+
+
+def are_held_twists(signs):
+    """Return whether clasps with these signs of their twists hold a work that no slide frees."""
+    return 0 in signs or are_firm_twists(signs)
+
+
 def clasps_of(work, stops):
     """Yield all clasps of stops: those of two stops before those of three."""
     kept = check_stops(work, stops)
     rows = right_rows(work, kept)
     for indices, amounts in clasp_lots(normals_of(work, kept)):
         yield Clasp(indices, amounts, twist_of(rows, indices, amounts), span_of(work, kept, indices, amounts))
-
-
-def are_clasp_indices(thing, many):
-    """Return whether a thing is a sequence of two or three strictly ascending indices below a number."""
-    if not is_sequence(thing) or not 2 <= len(thing) <= 3:
-        return False
-    if not all([is_whole(index, 0, many - 1) for index in thing]):
-        return False
-    return all([one < other for one, other in zip(thing, thing[1:])])
 
 
 def has_lesser_clasp(normals):
@@ -83,7 +84,7 @@ def has_lesser_clasp(normals):
 
 def clasp_fault(work, stops, clasp):
     """Judge a Clasp: None, or the first word that applies."""
-    if not are_clasp_indices(clasp.indices, len(stops)):
+    if not are_ascending(clasp.indices, len(stops)) or not 2 <= len(clasp.indices) <= 3:
         return "indices"
     amounts = clasp.amounts
     if not are_from_zero_on(amounts, len(clasp.indices)) or any([sign_of(amount) == 0 for amount in amounts]):

@@ -14,12 +14,16 @@ def grazing_motions(rows):
     return kernel_of(rows)
 
 
-def edge_motions(work, stops):
-    """Return the plain motions, ascending, whose sums are all free motions."""
-    rows = rows_of(work, stops)
+def motions_about(rows):
+    """Return the plain motions, ascending, whose sums are all motions that are free of rows of stops."""
     kernel = grazing_motions(rows)
     both_ways = kernel + tuple([opposite_motion(motion) for motion in kernel])
     found = both_ways + edges_of(rows + both_ways)
     # The numbers are whole, so their tops tell the order.
     tops = sorted([[number[0] for number in motion] for motion in found])
     return tuple([tuple([(top, 1) for top in row]) for row in tops])
+
+
+def edge_motions(work, stops):
+    """Return the plain motions, ascending, whose sums are all free motions."""
+    return motions_about(rows_of(work, stops))

@@ -35,6 +35,13 @@ def is_ratio_row(thing, many):
     return is_sequence(thing) and len(thing) == many and all([is_ratio(one) for one in thing])
 
 
+def are_ascending(thing, many):
+    """Return whether a thing of any kind is a sequence of indices below a number, strictly ascending."""
+    if not is_sequence(thing) or not all([is_whole(one, 0, many - 1) for one in thing]):
+        return False
+    return all([one < other for one, other in zip(thing, thing[1:])])
+
+
 def lowest(top, bottom):
     """Return the ratio of two whole numbers of which the second is not 0."""
     shared = gcd(top, bottom)

@@ -10,16 +10,26 @@ def is_inner_spot(thing):
     return is_ratio(thing) and 0 < thing[0] < thing[1]
 
 
+def stop_word(work, thing):
+    """Return None for a thing that is a stop of the work, otherwise what is wrong with it."""
+    if not is_sequence(thing) or len(thing) != 2:
+        return "stop"
+    if not is_whole(thing[0], 0, len(work) - 1):
+        return "side"
+    return None if is_inner_spot(thing[1]) else "spot"
+
+
+def is_stop(work, thing):
+    """Return whether a thing of any kind is a stop of the work."""
+    return stop_word(work, thing) is None
+
+
 def stop_told(work, stop, index):
     """Return a stop as a tuple; errors tell the index."""
-    if not is_sequence(stop) or len(stop) != 2:
-        raise BadStop(index, "stop")
-    side, spot = stop
-    if not is_whole(side, 0, len(work) - 1):
-        raise BadStop(index, "side")
-    if not is_inner_spot(spot):
-        raise BadStop(index, "spot")
-    return (side, spot)
+    word = stop_word(work, stop)
+    if word is not None:
+        raise BadStop(index, word)
+    return tuple(stop)
 
 
 def check_stop(work, stop):

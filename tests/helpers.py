@@ -436,3 +436,41 @@ def spot_cases():
         if 1 <= len(stops(some)) <= 6:
             yield work(text), around_stops(stops(some), 0)
             yield work(text), around_stops(stops(some), Fraction(1, 1000))
+
+
+TINY = Fraction(1, 10 ** 700)
+
+
+def is_range(test, found, holds):
+    """Ask of a range (low, high), None for no least, no greatest or no number at all, that a test holds just within."""
+    tries = [Fraction(0), Fraction(1), Fraction(-1), Fraction(1, 3), Fraction(10 ** 60), Fraction(-10 ** 60)]
+    low, high = found or (None, None)
+    is_new_tuple(test, found)
+    for end in (low, high):
+        if end is not None:
+            tries += [value(end), value(end) - TINY, value(end) + TINY]
+    if low is not None and high is not None:
+        test.assertLessEqual(value(low), value(high))
+        tries.append((value(low) + value(high)) / 2)
+    for one in tries:
+        inside = found is not None and (low is None or value(low) <= one) and (high is None or one <= value(high))
+        test.assertEqual(holds(ratio(one)), inside, (found, one))
+
+
+def with_further(pull, further, by):
+    """A pull plus a ratio times a further pull."""
+    return row(*[a + value(by) * b for a, b in zip(values(pull), values(further))])
+
+
+def some_pulls(seed, many, lines=()):
+    """Pulls of all kinds, the rest pull among them, some of them borne by rows, some just at the rim of these."""
+    chance = random.Random(seed)
+    found = [row("0 0 0"), row("0 -1 -2"), row("1 0 0"), row("0 0 1")]
+    for _ in range(many):
+        reach = chance.choice((2, 4, 10 ** 100))
+        pull = [Fraction(chance.randrange(-reach, reach + 1), chance.randrange(1, 4)) for _ in range(3)]
+        if lines and chance.randrange(2):
+            shares = [ratio(chance.choice((0, 0, 1, Fraction(1, 3)))) for _ in lines]
+            pull = [-one for one in weighted(lines, shares)]
+        found.append(row(*pull))
+    return found

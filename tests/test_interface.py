@@ -2,6 +2,7 @@
 
 import importlib
 import inspect
+import re
 import unittest
 
 LISTED = {
@@ -65,6 +66,40 @@ LISTED = {
         grown_pull(pull, size) bear_pull(work, stops, pull) is_borne(work, stops, pull)
         first_unborne(work, stops, pulls) bear_pull_fault(work, stops, pull, result)""",
     "cones": "edge_motions(work, stops)",
+    "spans": """amount_range(work, stops, pull, number) needed_stops(work, stops, pull)
+        pull_range(work, stops, pull, further) all_pull_range(work, stretches, pull, further)
+        some_pull_range(work, stretches, pull, further)""",
+    "bornewhere": """borne_places(work, stops, direction) missed_corner(work, stops, direction)
+        borne_directions(work, stops, place) weight_place(work)""",
+    "bounds": """walls_of(work, stops, bounds) within_bounds(work, stops, pull, bounds)
+        least_multiple(work, stops, pull, bounds) greatest_push(work, stops, pull)
+        strain_fault(work, stops, pull, bounds, result)""",
+    "leastlots": """check_aim(aim) has_aim(work, stops, aim) least_lots(work, candidates, aim)
+        spare_stops(work, stops, aim) lost_lot(work, stops, lost=1, *, aim='firm') most_lost(work, stops, aim)""",
+    "three": """feet_on(work, place) holding_area(work, sides) holding_areas(work) three_for(work)
+        three_fault(work, three) fewest_held(work)""",
+    "four": "can_be_firm(work, sides) firm_fours(work) four_for(work) four_fault(work, stops)",
+    "sliding": """slid_from(work, direction, far) slide_ins(work, stops) slid_or_stuck(work, stops)
+        slid_fault(work, stops, result)""",
+    "posts": """check_posts(work, posts) within_while(work, post, direction) first_met(work, posts, direction)
+        barred_arc(work, post) ways_in(work, posts) can_come(work, posts, direction) path_block(work, posts, slides)""",
+    "setting": "settings(work, stops) fewest_behind(work, stops) setting_slides(work, stops, lot)",
+    "seats": """check_seats(work, seats) seats_shift(work, seats, slips) slips_of(work, seats, motion)
+        slips_between(work, seats, others, slips)""",
+    "slack": """slip_shares(work, seats, place) spot_reach(work, seats, slacks, place, direction)
+        work_reach(work, seats, slacks, direction) reach_corners(work, seats, slacks, place)
+        best_seats(work, stops, slacks, place, direction)""",
+    "pairs": "check_both(pair, stops_one, stops_other) pair_rows(pair, stops_one, stops_other)",
+    "pairpushes": """pair_verdict(pair, stops_one, stops_other)
+        pair_bear(pair, stops_one, stops_other, pull_one, pull_other) touch_place(pair, amounts)
+        pair_fault(pair, stops_one, stops_other, told)
+        pair_pull_fault(pair, stops_one, stops_other, pull_one, pull_other, told)""",
+    "changes": """check_form(work, change) apply_change(work, stops, change)
+        apply_changes(work, stops, changes)""",
+    "wishes": """check_wish(wish) check_wishes(wishes) holds_wish(work, stops, wish)
+        holds_all(work, stops, wishes)""",
+    "mends": """good_selections(work, stops, pool, wishes) least_mends(work, stops, pool, wishes)
+        spoilers(work, stops, pool, wishes) mends_fault(work, stops, pool, wishes, mends)""",
 }
 
 CLASSES = {
@@ -78,23 +113,38 @@ CLASSES = {
     "allspots": {"Ends": ("choice", "motion"), "LooseEnds": ("choice", "loose")},
     "somespots": {"Placed": ("stops", "amounts"), "NoSpots": ("motion",)},
     "pulls": {"Pushes": ("amounts",), "Pulled": ("motion",)},
+    "bounds": {"Overborne": ("motion",), "Strain": ("multiple", "amounts", "motion")},
+    "three": {"Three": ("sides", "point", "stops")},
+    "sliding": {"SlidIn": ("direction",), "Stuck": ("numbers", "amounts")},
+    "slack": {"Reach": ("greatest", "signs"), "WorkReach": ("greatest", "corner"),
+              "BestSeats": ("numbers", "greatest")},
+    "pairs": {"Pair": ("one", "other")},
+    "pairpushes": {"PairFirm": ("amounts",), "PairFree": ("one", "other"), "PairPushes": ("amounts",),
+                   "PairPulled": ("one", "other")},
+    "mends": {"Mend": ("selection", "work", "stops")},
 }
 
 WORK_METHODS = """corner_of(self, side) side_of(self, side) normal_of(self, side) place_at(self, side, spot)
     value_at(self, side, place) is_within(self, place) shifted(self, by) turned(self) mirrored(self) grown(self, size)
     begun_at(self, corner)"""
 
+PAIR_METHODS = "swapped(self) shifted(self, by)"
+
+BENCH_METHODS = """__init__(self, work, stops=()) make(self, change) undo(self) holds(self, *wishes)
+    trial(self, *changes, wishes=(('firm',),)) stages(self) __len__(self) __contains__(self, stop)"""
+
 VALUES = {"ratios": ("ZERO", "ONE"), "motions": ("REST",), "pulls": ("NO_PULL",)}
 
 GENERATORS = {
     "stiemke": ("all_lean",), "clasps": ("clasps_of",), "turns": ("turn_steps", "slide_steps"),
-    "stretches": ("choices_of",), "allspots": ("loose_choices",),
+    "stretches": ("choices_of",), "allspots": ("loose_choices",), "three": ("holding_areas",),
+    "four": ("firm_fours",),
 }
 
 
 def signatures(text):
     """Couples (name, parameters in brackets) of a text of the interface."""
-    some = " ".join(text.split()).replace(") ", ")\n").split("\n")
+    some = re.sub(r"\) (?=\w)", ")\n", " ".join(text.split())).split("\n")
     return [(one[:one.index("(")], one[one.index("("):]) for one in some]
 
 
@@ -127,6 +177,20 @@ class Interface(unittest.TestCase):
         self.assertIsInstance(told["middle"], property)
         for name in ("__len__", "__eq__", "__contains__"):
             self.assertIn(name, told)
+
+    def test_methods_of_pair(self):
+        told = vars(importlib.import_module("firmstops.pairs").Pair)
+        for name, expected in signatures(PAIR_METHODS):
+            self.assertTrue(inspect.isfunction(told[name]), name)
+            self.assertEqual(str(inspect.signature(told[name])), expected, name)
+
+    def test_bench(self):
+        told = vars(importlib.import_module("firmstops.bench").Bench)
+        for name, expected in signatures(BENCH_METHODS):
+            self.assertTrue(inspect.isfunction(told[name]), name)
+            self.assertEqual(str(inspect.signature(told[name])), expected, name)
+        self.assertIsInstance(told["made"], property)
+        self.assertTrue(inspect.isgeneratorfunction(told["stages"]))
 
     def test_values(self):
         for module, names in VALUES.items():

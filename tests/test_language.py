@@ -2,6 +2,7 @@
 
 import ast
 import builtins
+import functools
 import os
 import unittest
 
@@ -58,6 +59,7 @@ def source(name):
         return stream.read()
 
 
+@functools.lru_cache(maxsize=None)
 def trees():
     return [(name, ast.parse(source(name))) for name in files()]
 
@@ -271,16 +273,17 @@ class Language(unittest.TestCase):
                         kept.add(node.attr)
                 self.assertFalse(kept & set(some), told.name)
                 methods[told.name], attributes[told.name] = set(some), kept
-        generators = set()
-        for name, tree in trees():
-            for function in functions(tree):
-                if any(isinstance(node, (ast.Yield, ast.YieldFrom)) for node in ast.walk(function)):
-                    self.assertNotIn(function.name, generators)
-                    generators.add(function.name)
         for told in methods:
             for other in attributes:
                 self.assertFalse(methods[told] & attributes[other], (told, other))
-            self.assertFalse(methods[told] & generators, told)
+
+    def test_generators_have_names_of_their_own(self):
+        some = [function for _, tree in trees() for function in functions(tree)]
+        names = [function.name for function in some]
+        for function in some:
+            if any(isinstance(node, (ast.Yield, ast.YieldFrom)) for node in ast.walk(function)):
+                self.assertEqual(names.count(function.name), 1, function.name)
+                self.assertNotIn(function.name, METHODS)
 
     def test_iterated_on_the_spot(self):
         for name, tree in trees():

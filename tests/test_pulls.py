@@ -1,6 +1,5 @@
 """[7.1], [7.2], [7.3]: pulls, pulls led along, borne pulls, and the judge."""
 
-import random
 import unittest
 from fractions import Fraction
 
@@ -13,25 +12,11 @@ from firmstops.stops import mirrored_stops
 
 from helpers import BOX, NO_COUPLES, NO_DIRECTIONS, NO_MOTIONS, NO_RATIOS, NO_SEQUENCES, TRIANGLE
 from helpers import are_firm, hold_cases, is_free_of, is_new_tuple, is_plain, is_result, lean_solutions, no_numbers
-from helpers import product, ratio, refused, refuses_stops, row, rows, some_stops, some_works, stops, values, weighted
-from helpers import work
+from helpers import product, ratio, refused, refuses_stops, row, rows, some_pulls, some_stops, some_works, stops, values
+from helpers import weighted, work
 
 GREAT = 10 ** 280 + 3
 TWO = stops("0:1/4 0:3/4")
-
-
-def some_pulls(seed, many, lines=()):
-    """Pulls of all kinds, some of them borne by rows, some just at the rim of these."""
-    chance = random.Random(seed)
-    found = [NO_PULL, row("0 -1 -2"), row("1 0 0"), row("0 0 1")]
-    for _ in range(many):
-        reach = chance.choice((2, 4, 10 ** 100))
-        pull = [Fraction(chance.randrange(-reach, reach + 1), chance.randrange(1, 4)) for _ in range(3)]
-        if lines and chance.randrange(2):
-            shares = [ratio(chance.choice((0, 0, 1, Fraction(1, 3)))) for _ in lines]
-            pull = [-one for one in weighted(lines, shares)]
-        found.append(row(*pull))
-    return found
 
 
 class Pulls(unittest.TestCase):
