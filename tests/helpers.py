@@ -474,3 +474,42 @@ def some_pulls(seed, many, lines=()):
             pull = [-one for one in weighted(lines, shares)]
         found.append(row(*pull))
     return found
+
+
+def beside(told, side, first, last, kind):
+    """A work of a kind on the other hand of a side's line, with a side from spot last to spot first of it."""
+    begin, end = values(told.place_at(side, ratio(last))), values(told.place_at(side, ratio(first)))
+    x, y = values(told.normals[side])
+    deep = [(end[0] - x * deep, end[1] - y * deep) for deep in (Fraction(1, 3), Fraction(3, 2))]
+    back = (begin[0] - x * Fraction(2, 3), begin[1] - y * Fraction(2, 3))
+    corners = {
+        "three": (begin, end, deep[1]), "four": (begin, end, deep[0], back),
+        "wide": (begin, end, (end[0] - (begin[0] - end[0]) - x, end[1] - (begin[1] - end[1]) - y), back),
+    }[kind]
+    return Work([row(*corner) for corner in corners])
+
+
+BESIDE = (("0", "1"), ("1/4", "3/4"), ("0", "1/2"), ("1/3", "1"), ("-1/2", "1/2"), ("2/3", "5/4"), ("-1", "2"))
+
+
+def some_touching(seed):
+    """Couples of works that touch along a whole side or a part of one, the spots of the shared ends with them."""
+    chance = random.Random(seed)
+    for told in some_works():
+        for first, last in BESIDE:
+            side, kind = chance.randrange(len(told)), chance.choice(("three", "four", "wide"))
+            other = beside(told, side, Fraction(first), Fraction(last), kind)
+            other = other.begun_at(chance.randrange(len(other)))
+            yield told, other, side, (max(Fraction(first), Fraction(0)), min(Fraction(last), Fraction(1)))
+
+
+def pair_stops(one, other, seed):
+    """Stops for two works, 0 to 6 of each: by chance, or one in the midst of each side, or both kinds."""
+    chance = random.Random(seed)
+    for low in (0, 2, 3, 4, 6):
+        found = []
+        for told in (one, other):
+            many = min(6, low + chance.randrange(3))
+            each = tuple((side, (1, 2)) for side in range(len(told)))
+            found.append(chance.choice((some_stops(told, seed + low, many), each[:6], (each + each)[:many])))
+        yield tuple(found)
