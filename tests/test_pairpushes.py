@@ -260,8 +260,8 @@ def amounts_wrong(good):
 class JudgeOfVerdicts(unittest.TestCase):
 
     def test_kind(self):
-        others = (None, 0, "firm", (), FIVE_AMOUNTS, Alike(), PairPushes(FIVE_AMOUNTS), PairPulled(REST, REST), PairFirm)
-        for thing in others:
+        for thing in (None, 0, "firm", (), FIVE_AMOUNTS, Alike(), PairPushes(FIVE_AMOUNTS), PairPulled(REST, REST),
+                      PairFirm):
             self.assertEqual(pair_fault(roofed(), *FIVE, thing), "kind")
 
     def test_firm(self):
