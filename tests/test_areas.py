@@ -11,7 +11,7 @@ from firmstops.errors import BadHalves, BadPlace, NoMiddle
 from firmstops.places import dot_of
 
 from helpers import BOX, EIGHT, NO_COUPLES, NO_SEQUENCES, SKEW, TRIANGLE
-from helpers import couples, fill_an_area, is_new_tuple, is_result, meetings, no_numbers, ratio, refused, row, rows
+from helpers import couples, fill_an_area, is_new_tuple, is_result, meetings, no_numbers, refused, row, rows
 from helpers import some_works, value, values, work
 
 GREAT = 10 ** 280 + 1

@@ -122,7 +122,8 @@ class Steps(unittest.TestCase):
         for change, what in ((None, "change"), (("put",), "change"), (("put", (3, (1, 2))), "stop"),
                              (["move", STOP, (1, 1)], "spot"), (("corner", 3, row("0 0")), "corner"),
                              (("corner", 0, (0, 0)), "place"), (("put", STOP), "many"),
-                             (("take", (2, (1, 2))), "absent"), (("move", (0, (1, 3)), (1, 2)), "absent"), (["corner", 0, row("4 3")], "work")):
+                             (("take", (2, (1, 2))), "absent"), (("move", (0, (1, 3)), (1, 2)), "absent"),
+                             (["corner", 0, row("4 3")], "work")):
             refused(self, BadChange, lambda: bench.make(change), 0, what)
             self.assertEqual(state(bench), before)
 

@@ -3,7 +3,6 @@
 import unittest
 from fractions import Fraction
 
-from firmstops.errors import BadStop
 from firmstops.firm import Firm, Free, firm_fault, firm_lack, firm_or_free, free_fault, is_firm, meet_of
 from firmstops.pushes import rows_of
 from firmstops.works import Work
