@@ -260,7 +260,8 @@ class Judge(unittest.TestCase):
         one = self.mends[0]
         for other in (None, 0, work(SQUARE), self.told.begun_at(1), self.told.corners, Alike()):
             self.assertEqual(self.judge((Mend((0, 1), other, one.stops),)), "behind")
-        for some in (None, 0, (), BEGUN, one.stops[::-1], self.mends[1].stops, one.stops + (STOP,), {}, one.stops[1:]):
+        for some in (None, 0, (), BEGUN, one.stops[::-1], self.mends[1].stops, one.stops + (STOP,), {}, one.stops[1:],
+                     [None] * 5, (0, 1, 2, 3, 4)):
             self.assertEqual(self.judge((Mend((0, 1), self.told, some),)), "behind")
         # What is behind is asked before the wishes.
         self.assertEqual(self.judge((Mend((0,), self.told, BEGUN),)), "behind")
