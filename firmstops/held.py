@@ -2,7 +2,7 @@
 
 from firmstops.areas import middle_of
 from firmstops.centres import about_place, centres_of
-from firmstops.clasps import Clasp, clasp_fault, clasps_of
+from firmstops.clasps import Clasp, are_held_twists, clasp_fault, clasps_of
 from firmstops.freely import free_slides, in_shape
 from firmstops.motions import is_direction, is_way
 from firmstops.places import is_couple
@@ -88,7 +88,10 @@ def held_or_loose(work, stops):
 
 def is_held(work, stops):
     """Return whether the work can make no real motion at all."""
-    return isinstance(held_or_loose(work, stops), Held)
+    kept = check_stops(work, stops)
+    if free_slides(work, kept) is not None:
+        return False
+    return are_held_twists([sign_of(clasp.twist) for clasp in clasps_of(work, kept)])
 
 
 def is_against(work, stops, clasp, sign):

@@ -1,12 +1,12 @@
 """How far places of a work can be off where its seats have slack."""
 
-from firmstops.elimination import index_sets
+from firmstops.elimination import columns_of, index_sets
 from firmstops.errors import BadSlacks
 from firmstops.freely import opposite
 from firmstops.linear import rank_of, solve_products
 from firmstops.motions import check_direction, velocity_at
-from firmstops.places import check_place, compare_places, cross_of, dot_of, place_minus, place_plus, place_scaled
-from firmstops.pushes import right_rows
+from firmstops.places import check_place, compare_places, cross_of, place_minus, place_plus, place_scaled
+from firmstops.pushes import right_rows, row_at
 from firmstops.ratios import ONE, ZERO, compare, greatest_of, is_ratio, is_sequence, sign_of, sum_of, times
 from firmstops.seats import seat_rows
 from firmstops.stops import check_stops
@@ -55,21 +55,17 @@ def check_slacks(slacks, many):
     return tuple(slacks)
 
 
-def unit_motions(rows):
-    """Return for each of three rows of rank 3 the motion with rate 1 there and 0 at the others."""
-    return [
-        solve_products(rows, [ONE if other == at else ZERO for other in range(len(rows))]) for at in range(len(rows))
-    ]
-
-
 def shares_at(rows, place):
     """Return the shares of seats, told by their rows, at a place."""
-    return tuple([velocity_at(motion, place) for motion in unit_motions(rows)])
+    units = [[ONE if other == at else ZERO for other in range(len(rows))] for at in range(len(rows))]
+    return tuple([velocity_at(solve_products(rows, slips), place) for slips in units])
 
 
-def reach_of(shares, slacks, direction):
-    """Return the Reach along a direction of a place with these shares."""
-    products = [dot_of(share, direction) for share in shares]
+def reach_of(rows, slacks, place, direction):
+    """Return the Reach of a place along a direction for seats, told by their rows."""
+    # The rate of the row at the place is the place's velocity times the direction, so where this row is a
+    # sum of the seats' rows, each seat's part is the product of its share and the direction.
+    products = solve_products(columns_of(rows), row_at(place, direction))
     signs = tuple([sign_of(product) for product in products])
     return Reach(sum_of([
         times(slack, times((sign, 1), product)) for slack, sign, product in zip(slacks, signs, products)
@@ -88,7 +84,7 @@ def spot_reach(work, seats, slacks, place, direction):
     kept = check_stops(work, seats)
     there, way = check_place(place), check_direction(direction)
     rows = seat_rows(work, kept)
-    return reach_of(shares_at(rows, there), check_slacks(slacks, 3), way)
+    return reach_of(rows, check_slacks(slacks, 3), there, way)
 
 
 def work_reach(work, seats, slacks, direction):
@@ -97,10 +93,7 @@ def work_reach(work, seats, slacks, direction):
     way = check_direction(direction)
     rows = seat_rows(work, kept)
     let = check_slacks(slacks, 3)
-    motions = unit_motions(rows)
-    reaches = [
-        reach_of([velocity_at(motion, corner) for motion in motions], let, way).greatest for corner in work.corners
-    ]
+    reaches = [reach_of(rows, let, corner, way).greatest for corner in work.corners]
     greatest = greatest_of(reaches)
     return WorkReach(greatest, reaches.index(greatest))
 
@@ -158,7 +151,7 @@ def best_seats(work, stops, slacks, place, direction):
     for numbers in index_sets(len(kept), 3):
         some = [rows[number] for number in numbers]
         if rank_of(some) == 3:
-            greatest = reach_of(shares_at(some, there), [let[number] for number in numbers], way).greatest
+            greatest = reach_of(some, [let[number] for number in numbers], there, way).greatest
             if best is None or compare(greatest, best.greatest) < 0:
                 best = BestSeats(numbers, greatest)
     return best

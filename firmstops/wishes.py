@@ -59,7 +59,10 @@ def is_met(work, stops, wish):
 
 def are_met(work, stops, wishes):
     """Return whether all right wishes hold for right stops."""
-    return all([is_met(work, stops, wish) for wish in wishes])
+    for wish in wishes:
+        if not is_met(work, stops, wish):
+            return False
+    return True
 
 
 def holds_wish(work, stops, wish):
